@@ -1,0 +1,1 @@
+"""Anyseven: what is told of all stretches of some lengths."""
