@@ -34,7 +34,7 @@ def way_of(book, steps):
         if first is None:
             first = step[0]
         last = lead[0]
-        cost = cost + lead[1]
+        cost += lead[1]
     return first, last, cost
 
 
