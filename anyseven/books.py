@@ -3,7 +3,7 @@
 from anyseven.checks import are_integers, first_twice, is_within, need_number
 from anyseven.errors import BadBook, BadNumber, BadRule, Impossible, Misfit, NoRule, TooMany, Twice
 from anyseven.papers import Denial
-from anyseven.rows import MOST_DAYS, need_row
+from anyseven.rows import MOST_DAYS, Row, need_row
 from anyseven.rules import Rule, need_rules, rule_at
 from anyseven.texts import UNTOLD, item_at, items_of, need_end, need_item, number_at
 
@@ -24,9 +24,7 @@ class Book:
 
     def __init__(self, days, rules):
         need_number(days, "days", 1, MOST_DAYS)
-        need_rules(rules, "rules")
-        if len(rules) > MOST_RULES:
-            raise TooMany("rules", MOST_RULES)
+        need_few_rules(rules)
         self.days = days
         self.rules = tuple(rules)
 
@@ -100,6 +98,18 @@ def need_book(value, part):
     """Raises BadBook for what is no Book."""
     if not isinstance(value, Book):
         raise BadBook(part)
+
+
+def need_few_rules(value):
+    """Raises BadRule for what is no list of Rules, TooMany for more than a book can have."""
+    need_rules(value, "rules")
+    if len(value) > MOST_RULES:
+        raise TooMany("rules", MOST_RULES)
+
+
+def is_row_of(book, value):
+    """Whether it is a Row that keeps the book."""
+    return isinstance(value, Row) and value.days == book.days and book.keeps(value)
 
 
 def need_rule_number(book, value):

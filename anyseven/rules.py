@@ -77,6 +77,13 @@ def both_told(one, other):
     return None if one is None or other is None else one + other
 
 
+def do_clash(one, other):
+    """Whether the low of the one, divided by its length, is above the high of the other, divided by its own."""
+    if one.low is None or other.high is None:
+        return False
+    return one.low * other.length > other.high * one.length
+
+
 def need_rules(value, part):
     """Raises BadRule for what is no list of Rules."""
     if not isinstance(value, (list, tuple)) or not all([isinstance(rule, Rule) for rule in value]):

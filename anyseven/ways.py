@@ -38,6 +38,12 @@ def way_of(book, steps):
     return first, last, cost
 
 
+def is_low_ring(book, steps):
+    """Whether it is the steps of a ring of the book that costs less than 0."""
+    way = way_of(book, steps)
+    return way is not None and way[0] == way[1] and way[2] < 0
+
+
 def links_of(book):
     """The list of all steps of the book, each as its begin, its end, its cost and itself."""
     links = []

@@ -3,10 +3,14 @@
 import unittest
 from pathlib import Path
 
-from anyseven import books, checks, errors, kept, levelled, papers, rows, rules, signs, sorts
+from anyseven import (
+    books, check_kept, check_longest, checks, closed, errors, kept, levelled, longest, loosened, missed, missed_lots,
+    pairs_of_lengths, papers, quarrels, rows, rules, shorteners, signs, sorts)
 from tests.support import Case
 
-MODULES = (errors, checks, papers, rows, sorts, levelled, rules, books, signs, kept)
+MODULES = (
+    errors, checks, papers, rows, sorts, levelled, rules, books, signs, kept, quarrels, loosened, check_kept, longest,
+    pairs_of_lengths, shorteners, check_longest, missed, closed, missed_lots)
 
 
 def examples():
@@ -40,7 +44,7 @@ class Examples(Case):
                     self.refuses(eval(told[7:], names), eval, asked, names)
                 else:
                     self.assertEqual(repr(eval(asked, names)), told)
-        self.assertEqual(count, 30)
+        self.assertEqual(count, 58)
 
 
 if __name__ == "__main__":

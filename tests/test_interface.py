@@ -20,6 +20,16 @@ FUNCTIONS = {
     "levelled": ("is_level(row)", "steady(row)", "levelled(row)"),
     "signs": ("gaining(lengths)", "losing(lengths)", "sign_book(days, gaining, losing)"),
     "kept": ("kept(book)", "cost_of(book, steps)", "upper(one, other)", "lower(one, other)"),
+    "quarrels": ("quarrels(book)",),
+    "loosened": ("loosened(book, number)",),
+    "check_kept": ("shows_kept(book, value)", "shows_loosened(book, number, value)"),
+    "longest": ("longest(rules)",),
+    "pairs_of_lengths": ("pair_longest(one, other)", "pair_ring(one, other)", "pair_row(one, other)"),
+    "shorteners": ("clashes(rules)", "without_each(rules)", "shorteners(rules)"),
+    "check_longest": ("shows_longest(rules, value)",),
+    "missed": ("missed(row)", "never_missed(days)"),
+    "closed": ("closed(days, lengths)", "closure(days, lengths)"),
+    "missed_lots": ("missed_lots(days)", "many_missed_lots(days)", "greatest_lots(days)"),
 }
 CLASSES = {
     "papers": {"Paper(word, *parts)": ("__eq__", "__bool__"), "Denial(word, *parts)": ("__eq__", "__bool__")},
@@ -35,6 +45,10 @@ CLASSES = {
             "with_days(days)", "turned()", "together()"),
         "Empty(one, other)": ()},
     "kept": {"Kept(row)": (), "Ring(steps)": ()},
+    "loosened": {"Loosened(by, row, ring)": (), "NeverKept(ring)": ()},
+    "longest": {"Longest(days, row, ring)": (), "ForEver(pace)": ()},
+    "missed": {"Missed(signs)": ()},
+    "closed": {"Closed()": (), "NotClosed(one, other)": (), "Closure(lengths)": (), "Makes(counts)": ()},
 }
 STATIC = ("of", "read")
 

@@ -1,11 +1,22 @@
 """Point 3: papers and denials, and what they keep."""
 
 from anyseven.books import Empty
+from anyseven.closed import Closed, Closure, Makes, NotClosed
 from anyseven.kept import Kept, Ring
+from anyseven.longest import ForEver, Longest
+from anyseven.loosened import Loosened, NeverKept
+from anyseven.missed import Missed
 from anyseven.papers import Denial, Paper, fixed
 from anyseven.rows import Row
 from tests.support import OTHER, Case
 
+# The classes of papers, their words, whether they are true, and their parts.
+CLASSES = (
+    (Kept, "kept", True, ("row",)), (Ring, "ring", False, ("steps",)), (Empty, "empty", False, ("one", "other")),
+    (Loosened, "loosened", True, ("by", "row", "ring")), (NeverKept, "neverkept", False, ("ring",)),
+    (Longest, "longest", True, ("days", "row", "ring")), (ForEver, "forever", False, ("pace",)),
+    (Missed, "missed", True, ("signs",)), (Closed, "closed", True, ()), (NotClosed, "notclosed", False, ("one", "other")),
+    (Closure, "closure", True, ("lengths",)), (Makes, "makes", False, ("counts",)))
 VALUES = (0, 1, True, None, "", "text", b"x", 2.5, {"a": [1]}, OTHER, Row([1, 2]), 10 ** 5000)
 
 
@@ -102,3 +113,35 @@ class Papers(Case):
         self.is_same(Ring([[0, 0, 1], (3, 0, 1)]).steps, ((0, 0, 1), (3, 0, 1)))
         self.is_same(Kept([[1]]).row, ((1,),))
         self.is_same((Empty([1], [2]).one, Empty([1], [2]).other), ((1,), (2,)))
+
+    def test_each_class(self):
+        for kind, word, truth, names in CLASSES:
+            self.assertEqual(kind.__name__.lower(), word)
+            self.assertTrue(issubclass(kind, Paper))
+            self.is_same(issubclass(kind, Denial), not truth)
+            for at in range(len(VALUES)):
+                parts = (VALUES[at:] + VALUES[:at])[:len(names)]
+                for paper in (kind(*parts), kind(**dict(zip(names[::-1], parts[::-1])))):
+                    self.is_same((paper.word, paper.parts, bool(paper)), (word, parts, truth))
+                    for name, part in zip(names, parts):
+                        self.assertIs(getattr(paper, name), part)
+                    self.is_same(paper == kind(*parts), True)
+                    self.is_same(paper != kind(*parts), False)
+
+    def test_parts_of_each_class_are_copied(self):
+        for kind, _, _, names in CLASSES:
+            inner = [1, [2, (3, [])]]
+            paper = kind(*[inner] * len(names))
+            inner[1].append(4)
+            inner.append(5)
+            for name, part in zip(names, paper.parts):
+                self.is_same(part, (1, (2, (3, ()))))
+                self.is_same(getattr(paper, name), part)
+
+    def test_papers_of_each_class_differ(self):
+        for kind, word, truth, names in CLASSES:
+            paper = kind(*[7] * len(names))
+            plain = [Paper(word, *paper.parts), Denial(word, *paper.parts), paper.parts, word, truth, None]
+            others = [other(*[7] * len(more)) for other, _, _, more in CLASSES if other is not kind]
+            bent = [kind(*[8 if at == part else 7 for at in range(len(names))]) for part in range(len(names))]
+            self.differs(paper, plain + others + bent)
