@@ -1,10 +1,10 @@
 """Books: a number of days, and rules."""
 
 from anyseven.checks import are_integers, first_twice, is_within, need_number
-from anyseven.errors import BadBook, BadNumber, BadRule, Impossible, Misfit, NoRule, TooMany, Twice
+from anyseven.errors import BadBook, BadNumber, Impossible, Misfit, NoRule, TooMany, Twice
 from anyseven.papers import Denial
 from anyseven.rows import MOST_DAYS, Row, need_row
-from anyseven.rules import Rule, need_rules, rule_at
+from anyseven.rules import Rule, need_rule, need_rules, rule_at
 from anyseven.texts import UNTOLD, item_at, items_of, need_end, need_item, number_at
 
 MOST_RULES = 8
@@ -51,8 +51,7 @@ class Book:
 
     def with_rule(self, rule):
         """The Book with this rule behind the others."""
-        if not isinstance(rule, Rule):
-            raise BadRule("rule")
+        need_rule(rule, "rule")
         return Book(self.days, self.rules + (rule,))
 
     def without(self, numbers):

@@ -51,6 +51,22 @@ def are_lengths_to(value, most):
     return isinstance(value, (list, tuple)) and all([is_within(item, 1, most) for item in value])
 
 
+def is_just(value, right):
+    """Whether a part of a paper is these integers, and tuples of them, and not what Python takes for equal."""
+    if not isinstance(right, tuple):
+        return is_integer(value) and value == right
+    if not isinstance(value, tuple) or len(value) != len(right):
+        return False
+    return all([is_just(item, told) for item, told in zip(value, right)])
+
+
+def are_ascending(value, least, most):
+    """Whether it is a list or tuple of integers from least to most, each above the one ahead of it."""
+    if not isinstance(value, (list, tuple)) or not all([is_within(item, least, most) for item in value]):
+        return False
+    return all([value[at] < value[at + 1] for at in range(len(value) - 1)])
+
+
 def first_twice(values):
     """The first of these integers or strings that equals one ahead of it, or None."""
     seen = set()

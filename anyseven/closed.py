@@ -1,6 +1,6 @@
 """Closed lots of lengths, and what lengths make."""
 
-from anyseven.checks import need_lengths, need_number
+from anyseven.checks import are_ascending, are_integers, need_lengths, need_number
 from anyseven.papers import Denial, Paper
 from anyseven.rows import MOST_DAYS
 
@@ -80,6 +80,17 @@ def counts_of(last, number):
         counts[length] = counts.get(length, 0) + 1
         number -= length
     return sorted(counts.items())
+
+
+def are_counts(counts, lengths, number):
+    """Whether it is ascending pairs of these lengths and how often they are taken to make the number."""
+    if not isinstance(counts, (list, tuple)) or not all([are_integers(pair) and len(pair) == 2 for pair in counts]):
+        return False
+    if not are_ascending([length for length, _ in counts], None, None):
+        return False
+    if not all([length in lengths and many > 0 for length, many in counts]):
+        return False
+    return sum([length * many for length, many in counts]) == number
 
 
 def need_lot(days, lengths):

@@ -26,6 +26,11 @@ def missed(row):
     return Missed([(length, SIGNS[word]) for length, word in sorts if word in SIGNS])
 
 
+def missed_lot(row):
+    """The lot of the missed lengths of a level row."""
+    return tuple([length for length, _ in missed(row).signs])
+
+
 def never_missed(days):
     """The ascending tuple of the lengths below days that no level row of so many days misses."""
     need_number(days, "days", 1, MOST_DAYS)

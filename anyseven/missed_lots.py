@@ -16,7 +16,12 @@ def missed_lots(days):
     # from one that is closed.
     for length in range(days - 1, 0, -1):
         lots = lots + [(length,) + lot for lot in lots if goes_with(days, length, lot)]
-    return tuple(sorted(sorted(lots), key=len))
+    return tuple(in_order(lots))
+
+
+def in_order(lots):
+    """The lots in their order: shorter ones first, those as long as one another as tuples."""
+    return sorted(sorted(lots), key=len)
 
 
 def many_missed_lots(days):

@@ -84,6 +84,12 @@ def do_clash(one, other):
     return one.low * other.length > other.high * one.length
 
 
+def need_rule(value, part):
+    """Raises BadRule for what is no Rule."""
+    if not isinstance(value, Rule):
+        raise BadRule(part)
+
+
 def need_rules(value, part):
     """Raises BadRule for what is no list of Rules."""
     if not isinstance(value, (list, tuple)) or not all([isinstance(rule, Rule) for rule in value]):

@@ -13,7 +13,11 @@ def sums(row, length):
 
 def sort_of(row, length):
     """The word of the sort of this length."""
-    found = sums(row, length)
+    return word_of(sums(row, length))
+
+
+def word_of(found):
+    """The word of the sort of a length with these sums."""
     least = min(found)
     greatest = max(found)
     if least > 0:

@@ -1,5 +1,7 @@
 """Steps between the places of a book, ways of them, and rings that cost less than 0."""
 
+from heapq import heappop, heappush
+
 from anyseven.checks import are_integers, is_within
 
 
@@ -95,3 +97,49 @@ def ring_behind(came, place):
         steps.append(link[3])
         place = link[0]
     return steps[seen[place]:][::-1]
+
+
+def links_by_begin(many, links):
+    """The list of the lists of the links that begin at each of so many places."""
+    outs = [[] for _ in range(many)]
+    for link in links:
+        outs[link[0]].append(link)
+    return outs
+
+
+def least_ways(outs, heights, start):
+    """The pair of two dicts with all places to which ways come: their least costs, and the links that come last.
+
+    The links that begin at each place are told, and the heights of a row in which no step leads up
+    by more than its cost. Where the ways begin no link comes last.
+    """
+    # By how much a way costs more than the row rises along it, is never below 0.
+    spare, came = {start: 0}, {}
+    queue = [(0, start)]
+    while queue:
+        so_far, place = heappop(queue)
+        if so_far > spare[place]:
+            continue
+        for link in outs[place]:
+            end = link[1]
+            more = so_far + heights[place] + link[2] - heights[end]
+            if end not in spare or more < spare[end]:
+                spare[end] = more
+                came[end] = link
+                heappush(queue, (more, end))
+    return {place: spare[place] + heights[place] - heights[start] for place in spare}, came
+
+
+def way_to(came, place):
+    """The steps of the way that comes to this place, by the links that come last to each."""
+    steps = []
+    while place in came:
+        steps.append(came[place][3])
+        place = came[place][0]
+    return steps[::-1]
+
+
+def is_way(book, steps, first, last, most):
+    """Whether it is the steps of a way of the book from one place to another one that costs at most so much."""
+    way = way_of(book, steps)
+    return way is not None and way[0] == first and way[1] == last and way[2] <= most

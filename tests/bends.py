@@ -71,3 +71,33 @@ def alike(paper):
     class Below(type(paper)):
         pass
     return (Paper(paper.word, *paper.parts), Below(*paper.parts), paper.parts, paper.word, type(paper)) + STRANGE
+
+
+def bent_spots(value):
+    """Other values in the place of any value: bent at each spot within it, and what is none."""
+    if type(value) is int:
+        yield from bent_numbers(value)
+    elif isinstance(value, Row):
+        yield from bent_row(value)
+    elif isinstance(value, tuple):
+        yield from bent_tuple(value)
+    else:
+        yield from STRANGE
+
+
+def bent_tuple(value):
+    """Other tuples: turned, with an item left out, put in or exchanged, and bent at each spot."""
+    yield from STRANGE
+    yield from (value[::-1], value + value, value + value[:1], list(value), value[1:] + value[:1], (value,), str(value))
+    for at, item in enumerate(value):
+        yield value[:at] + value[at + 1:]
+        yield value[:at] + (item,) + value[at:]
+        if at > 0:
+            yield value[:at - 1] + (item, value[at - 1]) + value[at + 1:]
+        for other in bent_spots(item):
+            yield value[:at] + (other,) + value[at + 1:]
+
+
+def bent_papers(paper):
+    """Papers of the same class, bent at each spot of each of their parts."""
+    yield from bent(paper, *[bent_spots] * len(paper.parts))

@@ -4,13 +4,17 @@ import unittest
 from pathlib import Path
 
 from anyseven import (
-    books, check_kept, check_longest, checks, closed, errors, kept, levelled, longest, loosened, missed, missed_lots,
-    pairs_of_lengths, papers, quarrels, rows, rules, shorteners, signs, sorts)
+    alike, apart, books, bounds, check_bounds, check_kept, check_level, check_longest, check_missed, check_tables, checks,
+    closed, errors, even, follows, kept, level_lengths, level_stretches, levelled, longest, loosened, made, missed,
+    missed_lots, moments, needless, paces, pairs_of_lengths, papers, quarrels, rounds, rows, rules, settled, shorteners,
+    signs, sorts, tables, unlike, walks)
 from tests.support import Case
 
 MODULES = (
     errors, checks, papers, rows, sorts, levelled, rules, books, signs, kept, quarrels, loosened, check_kept, longest,
-    pairs_of_lengths, shorteners, check_longest, missed, closed, missed_lots)
+    pairs_of_lengths, shorteners, check_longest, missed, closed, missed_lots, made, walks, check_missed, moments,
+    level_stretches, level_lengths, check_level, bounds, follows, needless, alike, check_bounds, tables, unlike, apart,
+    check_tables, paces, even, rounds, settled)
 
 
 def examples():
@@ -44,7 +48,7 @@ class Examples(Case):
                     self.refuses(eval(told[7:], names), eval, asked, names)
                 else:
                     self.assertEqual(repr(eval(asked, names)), told)
-        self.assertEqual(count, 58)
+        self.assertEqual(count, 105)
 
 
 if __name__ == "__main__":

@@ -30,6 +30,37 @@ FUNCTIONS = {
     "missed": ("missed(row)", "never_missed(days)"),
     "closed": ("closed(days, lengths)", "closure(days, lengths)"),
     "missed_lots": ("missed_lots(days)", "many_missed_lots(days)", "greatest_lots(days)"),
+    "made": ("made_row(days, lengths)",),
+    "walks": ("walk_lots(days)",),
+    "check_missed": (
+        "shows_missed(row, value)", "shows_closed(days, lengths, value)", "shows_closure(days, lengths, value)",
+        "shows_made(days, lengths, value)"),
+    "moments": ("height_at(row, moment)", "sum_between(row, first, last)", "cut_finer(row, parts)"),
+    "level_stretches": ("sum_begins(row, length, amount)", "level_stretch(row, length)", "average_stretch(row, length)"),
+    "level_lengths": ("level_lengths(row)", "other_lengths(row)"),
+    "check_level": ("shows_level(row, length, value)", "shows_average(row, length, value)"),
+    "bounds": (
+        "greatest(book, begin, length)", "least(book, begin, length)", "any_greatest(book, length)",
+        "any_least(book, length)"),
+    "follows": ("follows(book, rule)",),
+    "needless": ("needless(book)", "tightened(book)"),
+    "alike": ("alike(days, one, other)",),
+    "check_bounds": (
+        "shows_greatest(book, begin, length, value)", "shows_least(book, begin, length, value)",
+        "shows_any_greatest(book, length, value)", "shows_any_least(book, length, value)",
+        "shows_follows(book, rule, value)", "shows_alike(days, one, other, value)"),
+    "tables": (
+        "table_of(row)", "signs_row(days, gaining, losing, is_level=False)",
+        "forced(days, gaining, losing, is_level=False)"),
+    "unlike": ("unlike_pairs(days)", "unlike(days, gaining, losing)", "all_tables(days)"),
+    "apart": ("apart(days, missed, others)",),
+    "check_tables": (
+        "shows_table(row, value)", "shows_signs(days, gaining, losing, is_level, value)",
+        "shows_unlike(days, gaining, losing, value)", "shows_apart(days, missed, others, value)"),
+    "paces": ("paces(rules)", "simplest_pace(rules)"),
+    "even": ("even_gain(pace, day)", "even_row(pace, begin, days)"),
+    "rounds": ("totals(days, rules)",),
+    "settled": ("settled(rules, length)", "settled_from(rules)"),
 }
 CLASSES = {
     "papers": {"Paper(word, *parts)": ("__eq__", "__bool__"), "Denial(word, *parts)": ("__eq__", "__bool__")},
@@ -49,6 +80,22 @@ CLASSES = {
     "longest": {"Longest(days, row, ring)": (), "ForEver(pace)": ()},
     "missed": {"Missed(signs)": ()},
     "closed": {"Closed()": (), "NotClosed(one, other)": (), "Closure(lengths)": (), "Makes(counts)": ()},
+    "level_stretches": {"Stretch(begin)": (), "Sign(sign)": ()},
+    "bounds": {
+        "Bound(number, way, row)": (), "Unbound(places)": (), "AnyBound(number, begin, row, ways)": (),
+        "AnyUnbound(begin, places)": ()},
+    "follows": {"Follows(ways)": (), "Breaks(row, begin)": ()},
+    "alike": {"Alike(leads)": (), "Unlike(row)": ()},
+    "tables": {"Table(gaining, losing)": (), "SignsRow(row)": (), "SignsRing(places)": ()},
+    "unlike": {"BothSigns(row)": (), "Home(places)": ()},
+    "apart": {"Parted(row)": (), "Joined(length, counts)": ()},
+    "paces": {"Paces(low, high)": (), "Clash(one, other)": ()},
+    "rounds": {
+        "Round(gains)": (
+            "__len__", "__eq__", "sum_of(begin, length)", "sort_of(length)", "keeps(rule)", "turned(by)", "twice()",
+            "row(begin, days)"),
+        "Totals(low, high)": (), "NoTotal(one, other)": ()},
+    "settled": {"Settled(most, forth, back, row)": (), "NoSum(divisor)": ()},
 }
 STATIC = ("of", "read")
 

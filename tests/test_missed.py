@@ -10,22 +10,11 @@ from anyseven.missed import Missed, missed, never_missed
 from anyseven.missed_lots import missed_lots
 from anyseven.rows import Row
 from tests.anew import is_closed
+from tests.anew_levels import signs_of
 from tests.support import NO_INTEGERS, Case
 from tests.test_rows import NO_ROWS
 
 HUGE = 10 ** 5000
-
-
-def signs_of(gains):
-    """The missed lengths and their signs, each stretch added up."""
-    found = []
-    for length in range(1, len(gains)):
-        sums = [sum(gains[begin:begin + length]) for begin in range(len(gains) - length + 1)]
-        if min(sums) > 0:
-            found.append((length, 1))
-        if max(sums) < 0:
-            found.append((length, -1))
-    return tuple(found)
 
 
 def level_rows(days, most):

@@ -1,13 +1,23 @@
 """Point 3: papers and denials, and what they keep."""
 
+from anyseven.alike import Alike, Unlike
+from anyseven.apart import Joined, Parted
 from anyseven.books import Empty
+from anyseven.bounds import AnyBound, AnyUnbound, Bound, Unbound
 from anyseven.closed import Closed, Closure, Makes, NotClosed
+from anyseven.follows import Breaks, Follows
 from anyseven.kept import Kept, Ring
+from anyseven.level_stretches import Sign, Stretch
 from anyseven.longest import ForEver, Longest
 from anyseven.loosened import Loosened, NeverKept
 from anyseven.missed import Missed
+from anyseven.paces import Clash, Paces
 from anyseven.papers import Denial, Paper, fixed
+from anyseven.rounds import NoTotal, Totals
 from anyseven.rows import Row
+from anyseven.settled import NoSum, Settled
+from anyseven.tables import SignsRing, SignsRow, Table
+from anyseven.unlike import BothSigns, Home
 from tests.support import OTHER, Case
 
 # The classes of papers, their words, whether they are true, and their parts.
@@ -16,7 +26,18 @@ CLASSES = (
     (Loosened, "loosened", True, ("by", "row", "ring")), (NeverKept, "neverkept", False, ("ring",)),
     (Longest, "longest", True, ("days", "row", "ring")), (ForEver, "forever", False, ("pace",)),
     (Missed, "missed", True, ("signs",)), (Closed, "closed", True, ()), (NotClosed, "notclosed", False, ("one", "other")),
-    (Closure, "closure", True, ("lengths",)), (Makes, "makes", False, ("counts",)))
+    (Closure, "closure", True, ("lengths",)), (Makes, "makes", False, ("counts",)),
+    (Stretch, "stretch", True, ("begin",)), (Sign, "sign", False, ("sign",)),
+    (Bound, "bound", True, ("number", "way", "row")), (Unbound, "unbound", False, ("places",)),
+    (AnyBound, "anybound", True, ("number", "begin", "row", "ways")), (AnyUnbound, "anyunbound", False, ("begin", "places")),
+    (Follows, "follows", True, ("ways",)), (Breaks, "breaks", False, ("row", "begin")),
+    (Alike, "alike", True, ("leads",)), (Unlike, "unlike", False, ("row",)),
+    (Table, "table", True, ("gaining", "losing")), (SignsRow, "signsrow", True, ("row",)),
+    (SignsRing, "signsring", False, ("places",)), (BothSigns, "bothsigns", True, ("row",)), (Home, "home", False, ("places",)),
+    (Parted, "parted", True, ("row",)), (Joined, "joined", False, ("length", "counts")),
+    (Paces, "paces", True, ("low", "high")), (Clash, "clash", False, ("one", "other")),
+    (Totals, "totals", True, ("low", "high")), (NoTotal, "nototal", False, ("one", "other")),
+    (Settled, "settled", True, ("most", "forth", "back", "row")), (NoSum, "nosum", False, ("divisor",)))
 VALUES = (0, 1, True, None, "", "text", b"x", 2.5, {"a": [1]}, OTHER, Row([1, 2]), 10 ** 5000)
 
 

@@ -4,12 +4,14 @@ import random
 
 from anyseven.errors import BadNumber, BadRow, BadText, Misfit, TooMany
 from anyseven.kept import Kept
+from anyseven.rounds import Round
 from anyseven.rows import Row, row_at
 from anyseven.rules import Rule
 from tests.support import NO_INTEGERS, NO_LISTS_OF_INTEGERS, NO_NUMBER_ITEMS, NO_STRINGS, OTHER, Case
 
 HUGE = 10 ** 5000
-NO_ROWS = (True, False, None, 0, 1, "1 2", "", [1, 2], (1,), {}, {"gains": (1,)}, OTHER, Row, Rule(1, 1), Kept(Row([1])))
+NO_ROWS = (
+    True, False, None, 0, 1, "1 2", "", [1, 2], (1,), {}, {"gains": (1,)}, OTHER, Row, Rule(1, 1), Kept(Row([1])), Round([1, 2]))
 
 
 class Below(Row):
