@@ -1,7 +1,7 @@
 """Books: a number of days, and rules."""
 
-from anyseven.checks import are_integers, first_twice, is_within, need_number
-from anyseven.errors import BadBook, BadNumber, Impossible, Misfit, NoRule, TooMany, Twice
+from anyseven.checks import are_integers, is_within, need_no_twice, need_number
+from anyseven.errors import BadBook, BadNumber, Impossible, Misfit, NoRule, TooMany
 from anyseven.papers import Denial
 from anyseven.rows import MOST_DAYS, Row, need_row
 from anyseven.rules import Rule, need_rule, need_rules, rule_at
@@ -60,9 +60,7 @@ class Book:
             raise BadNumber("numbers")
         for number in numbers:
             need_rule_number(self, number)
-        twice = first_twice(numbers)
-        if twice is not None:
-            raise Twice(twice)
+        need_no_twice(numbers)
         return Book(self.days, [rule for at, rule in enumerate(self.rules) if at not in numbers])
 
     def with_days(self, days):

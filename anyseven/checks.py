@@ -52,7 +52,9 @@ def are_lengths_to(value, most):
 
 
 def is_just(value, right):
-    """Whether a part of a paper is these integers, and tuples of them, and not what Python takes for equal."""
+    """Whether a part of a paper is these integers, Nones and tuples of them, and not what Python takes for equal."""
+    if right is None:
+        return value is None
     if not isinstance(right, tuple):
         return is_integer(value) and value == right
     if not isinstance(value, tuple) or len(value) != len(right):
@@ -119,6 +121,11 @@ def need_lengths(value, part, most):
     """Raises BadLot for what is no list of lengths from 1 to most, then Twice for equal ones."""
     if not are_lengths_to(value, most):
         raise BadLot(part)
-    twice = first_twice(value)
+    need_no_twice(value)
+
+
+def need_no_twice(values):
+    """Raises Twice for the first of these integers or strings that equals one ahead of it."""
+    twice = first_twice(values)
     if twice is not None:
         raise Twice(twice)

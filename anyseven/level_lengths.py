@@ -47,16 +47,25 @@ def scale_of(row):
 
 def lengths_between(row, one, other, scale):
     """The spans, perhaps none, of the lengths from day one to a later day, or the same, at one height, scale times."""
+    # The heights that both share go evenly, and so do the lengths.
+    lengths = [end - begin for begin, end in moments_alike(row, one, other, scale)]
+    return [(max(0, min(lengths)), max(lengths))] if lengths else []
+
+
+def moments_alike(row, one, other, scale):
+    """The pairs of a moment of day one and one of day other at the least and at the greatest height that both share.
+
+    The moments are told scale times; where the row stays as high for a day they are its first and its last one.
+    """
     low = max([min(row.heights[day], row.heights[day + 1]) for day in (one, other)])
     high = min([max(row.heights[day], row.heights[day + 1]) for day in (one, other)])
     if low > high:
         return []
-    # The heights that both share go evenly, and so do the lengths.
-    lengths = []
+    pairs = []
     for height in (low, high):
-        for begin in moments_at(row, one, height, scale):
-            lengths.extend([end - begin for end in moments_at(row, other, height, scale)])
-    return [(max(0, min(lengths)), max(lengths))]
+        ends = moments_at(row, other, height, scale)
+        pairs.extend([(begin, end) for begin in moments_at(row, one, height, scale) for end in ends])
+    return pairs
 
 
 def moments_at(row, day, height, scale):

@@ -34,8 +34,7 @@ class NoSum(Denial):
 
 def settled(rules, length):
     """The Settled of the length, or the NoSum if no counts of the rules make it."""
-    need_rules(rules, "rules")
-    need_number(length, "length", 1, MOST_DAYS)
+    need_settled(rules, length)
     days = max(length, settled_from(rules))
     clash = paces(rules)
     if not clash:
@@ -69,3 +68,10 @@ def divisor_of(rules):
 def counts_of_steps(rules, way, sign):
     """How often the way takes the step of each rule in this direction."""
     return [len([step for step in way if step[1:] == (number, sign)]) for number in range(len(rules))]
+
+
+def need_settled(rules, length):
+    """Raises what is told of rules and a length, those of what is no list or number ahead of those of too many."""
+    need_rules(rules, "rules")
+    need_number(length, "length", 1, MOST_DAYS)
+    need_lasting_rules(rules)

@@ -6,7 +6,11 @@ Rules are told here as triples (length, low, high); fractions are Python's own.
 from fractions import Fraction
 from heapq import heappop, heappush
 
-from tests.anew import keeps_all
+from anyseven.paces import Clash, Paces
+from anyseven.rounds import NoTotal, Totals
+from anyseven.rows import Row
+from anyseven.settled import NoSum, Settled
+from tests.anew import is_number, keeps_all
 
 
 def clashing(rules):
@@ -71,3 +75,80 @@ def cost_of_counts(rules, forth, back):
     cost = sum(many * (high or 0) for many, (_, _, high) in zip(forth, rules))
     cost -= sum(many * (low or 0) for many, (_, low, _) in zip(back, rules))
     return cost, sum((more - fewer) * length for more, fewer, (length, _, _) in zip(forth, back, rules))
+
+
+def total_bounds(days, rules):
+    """For each rule the least total of a round that its low allows, and the greatest that its high does."""
+    found = []
+    for length, low, high in rules:
+        least = None if low is None else -((-low * days) // length)
+        found.append((least, None if high is None else high * days // length))
+    return found
+
+
+def no_totals(days, rules):
+    """The pairs of numbers of rules, the low of one and the high of other, that let no integer be the total."""
+    bounds = list(enumerate(total_bounds(days, rules)))
+    return [
+        (one, other) for one, (low, _) in bounds for other, (_, high) in bounds
+        if low is not None and high is not None and low > high]
+
+
+def are_plain(values, right):
+    """Whether these are the same values, of the same kinds."""
+    return all(type(value) is type(told) and value == told for value, told in zip(values, right))
+
+
+def is_told_fraction(value, right):
+    if right is None:
+        return value is None
+    return isinstance(value, tuple) and len(value) == 2 and are_plain(value, (right.numerator, right.denominator))
+
+
+def right_paces(rules, paper):
+    pairs = clashing(rules)
+    if type(paper) is Clash:
+        return all(map(is_number, paper.parts)) and paper.parts in pairs
+    if type(paper) is not Paces or pairs:
+        return False
+    return all(is_told_fraction(value, right) for value, right in zip(paper.parts, pace_bounds(rules)))
+
+
+def right_totals(days, rules, paper):
+    pairs = no_totals(days, rules)
+    if type(paper) is NoTotal:
+        return all(map(is_number, paper.parts)) and paper.parts in pairs
+    if type(paper) is not Totals or pairs:
+        return False
+    lows = [low for low, _ in total_bounds(days, rules) if low is not None]
+    highs = [high for _, high in total_bounds(days, rules) if high is not None]
+    return are_plain(paper.parts, (max(lows, default=None), min(highs, default=None)))
+
+
+def right_settled(rules, length, paper):
+    if clashing(rules):
+        return False
+    number = settled_sum(rules, length)
+    if type(paper) is NoSum:
+        divisor = paper.divisor
+        if divisor is None:
+            one_way = all(low is None for _, low, _ in rules) or all(high is None for _, _, high in rules)
+            return one_way and number is None
+        if not is_number(divisor) or divisor < 1 or not rules:
+            return False
+        return length % divisor != 0 and all(told % divisor == 0 for told, _, _ in rules)
+    if type(paper) is not Settled or number is None or not are_plain([paper.most], [number]):
+        return False
+    for counts in (paper.forth, paper.back):
+        if not isinstance(counts, tuple) or len(counts) != len(rules):
+            return False
+        if not all(is_number(many) and many >= 0 for many in counts):
+            return False
+    if cost_of_counts(rules, paper.forth, paper.back) != (number, length) or not isinstance(paper.row, Row):
+        return False
+    lengths = sorted({told for told, _, _ in rules}, reverse=True)
+    enough = 1 if not lengths else lengths[0] if len(lengths) == 1 else lengths[0] + lengths[1] - 1
+    gains = paper.row.gains
+    if len(gains) < max(enough, length) or not keeps_all(gains, rules):
+        return False
+    return number in [sum(gains[begin:begin + length]) for begin in range(len(gains) - length + 1)]

@@ -30,6 +30,12 @@ def same(one, other):
     return one is other or one == other
 
 
+def few(values, chance, most):
+    """Some of the values, as they come, if there are more."""
+    values = list(values)
+    return values if len(values) <= most else chance.sample(values, most)
+
+
 def shown(value):
     """The value as a failing test shows it, cut short."""
     try:

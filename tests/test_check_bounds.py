@@ -16,7 +16,7 @@ from anyseven.rules import Rule
 from tests import bends
 from tests.anew_bounds import right_alike, right_any_bound, right_bound, right_follows
 from tests.bends import STRANGE, bent_papers
-from tests.support import NO_INTEGERS, Case
+from tests.support import NO_INTEGERS, Case, few
 from tests.test_books import NO_BOOKS
 from tests.test_bounds import NEVER, kept_books, stretches
 from tests.test_follows import rules_near
@@ -32,12 +32,6 @@ OTHER_PAPERS = (
     Bound(None, None, None), Unbound(None), AnyBound(None, None, None, None), AnyUnbound(None, None), Follows(None),
     Breaks(None, None), Alike(None), Unlike(None), Kept(ROW), Ring(WAY), Bound(2, WAY, ROW), Unbound([0, 2]), Follows(()), Alike(()),
     AnyBound(2, 0, ROW, ()), AnyUnbound(0, [0, 2]), Breaks(ROW, 0), Unlike(ROW), Unbound(()), Bound(0, (), ROW))
-
-
-def few(values, chance, most):
-    """Some of the values, as they come, if there are more."""
-    values = list(values)
-    return values if len(values) <= most else chance.sample(values, most)
 
 
 class ShowsBounds(Case):

@@ -14,8 +14,7 @@ from anyseven.unlike import BothSigns, Home, unlike
 from tests import bends
 from tests.anew_signs import right_apart, right_signs, right_table, right_unlike
 from tests.bends import STRANGE, bent_papers
-from tests.support import Case
-from tests.test_check_bounds import few
+from tests.support import Case, few
 from tests.test_rows import NO_ROWS
 from tests.test_tables import NO_DAYS, NO_LOTS, NO_TRUTHS, some_signs
 

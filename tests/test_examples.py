@@ -4,17 +4,21 @@ import unittest
 from pathlib import Path
 
 from anyseven import (
-    alike, apart, books, bounds, check_bounds, check_kept, check_level, check_longest, check_missed, check_tables, checks,
-    closed, errors, even, follows, kept, level_lengths, level_stretches, levelled, longest, loosened, made, missed,
-    missed_lots, moments, needless, paces, pairs_of_lengths, papers, quarrels, rounds, rows, rules, settled, shorteners,
-    signs, sorts, tables, unlike, walks)
+    alike, amounts, apart, books, bounds, check_bounds, check_duties, check_kept, check_level, check_longest,
+    check_missed, check_paces, check_shares, check_tables, check_unseen, checks, choices, closed, desk, desk_asks,
+    desk_deeds, desk_lines, duties, duty_bounds, duty_counts, errors, even, follows, idle, kept, level_lengths,
+    level_stretches, levelled, longest, loosened, made, missed, missed_lots, moments, needless, paces,
+    pairs_of_lengths, papers, quarrels, rounds, row_shares, rows, rules, sayingbooks, sayings, settled, shares, shelves,
+    shorteners, signs, sorts, stories, tables, unlike, unseen, walks)
 from tests.support import Case
 
 MODULES = (
     errors, checks, papers, rows, sorts, levelled, rules, books, signs, kept, quarrels, loosened, check_kept, longest,
     pairs_of_lengths, shorteners, check_longest, missed, closed, missed_lots, made, walks, check_missed, moments,
     level_stretches, level_lengths, check_level, bounds, follows, needless, alike, check_bounds, tables, unlike, apart,
-    check_tables, paces, even, rounds, settled)
+    check_tables, paces, even, rounds, settled, check_paces, duties, duty_counts, duty_bounds, check_duties, amounts,
+    shares, row_shares, check_shares, sayings, sayingbooks, choices, unseen, idle, check_unseen, desk_lines, shelves,
+    desk_deeds, desk_asks, desk, stories)
 
 
 def examples():
@@ -48,7 +52,7 @@ class Examples(Case):
                     self.refuses(eval(told[7:], names), eval, asked, names)
                 else:
                     self.assertEqual(repr(eval(asked, names)), told)
-        self.assertEqual(count, 105)
+        self.assertEqual(count, 149)
 
 
 if __name__ == "__main__":

@@ -61,6 +61,29 @@ FUNCTIONS = {
     "even": ("even_gain(pace, day)", "even_row(pace, begin, days)"),
     "rounds": ("totals(days, rules)",),
     "settled": ("settled(rules, length)", "settled_from(rules)"),
+    "check_paces": (
+        "shows_paces(rules, value)", "shows_totals(days, rules, value)", "shows_settled(rules, length, value)"),
+    "duties": ("is_duty(row)", "duty_book(days, rules)", "rested(rules)"),
+    "duty_counts": (
+        "many_duties(days, rules)", "many_from(days, rules, begun)", "day_counts(days, rules)",
+        "duty_at(days, rules, number)", "number_of(rules, row)", "all_duties(days, rules)"),
+    "duty_bounds": ("fewest_duties(days, rules)", "most_duties(days, rules)", "sure_days(days, rules)"),
+    "check_duties": ("shows_fewest(days, rules, value)", "shows_most(days, rules, value)"),
+    "shares": ("share_of_round(amounts, share)",),
+    "row_shares": (
+        "share_of_row(amounts, share)", "share_or_rest(amounts, share)", "half(amounts)", "share_spans(amounts)"),
+    "check_shares": (
+        "shows_round(amounts, share, value)", "shows_row(amounts, share, value)",
+        "shows_or_rest(amounts, share, value)"),
+    "sayings": ("saying_text(saying)", "read_saying(text)"),
+    "choices": ("choices_of(days, saying)", "contrary_of(days, saying)", "many_choices(book)"),
+    "unseen": ("some_row(book)", "judged(book, saying)"),
+    "idle": ("idle(book)", "saying_quarrels(book)", "one_wrong(book)"),
+    "check_unseen": ("shows_some_row(book, value)", "shows_judged(book, saying, value)"),
+    "desk_lines": ("read_line(line)",),
+    "desk_deeds": ("changed(shelf, line)",),
+    "desk_asks": ("answer_of(shelf, line)",),
+    "stories": ("replay(lines)", "parting(one, other)"),
 }
 CLASSES = {
     "papers": {"Paper(word, *parts)": ("__eq__", "__bool__"), "Denial(word, *parts)": ("__eq__", "__bool__")},
@@ -96,6 +119,28 @@ CLASSES = {
             "row(begin, days)"),
         "Totals(low, high)": (), "NoTotal(one, other)": ()},
     "settled": {"Settled(most, forth, back, row)": (), "NoSum(divisor)": ()},
+    "duty_bounds": {"Duties(row, way)": ()},
+    "amounts": {
+        "Amounts(pairs)": (
+            "__eq__", "__str__", "read(text)", "parts(first, last)", "turned(by)", "backwards()", "exchanged()",
+            "cut(parts)")},
+    "shares": {"Share(first, last)": ()},
+    "row_shares": {"NoShare(sign)": (), "Rest(first, last)": ()},
+    "sayings": {
+        "Some(length, low=None, high=None)": ("__eq__", "__str__", "read(text)", "keeps(row)", "turned()"),
+        "Just(length, number)": ("__eq__", "__str__", "read(text)", "keeps(row)", "turned()"),
+        "Told(begin, length, low=None, high=None)": ("__eq__", "__str__", "read(text)", "keeps(row)", "turned()")},
+    "sayingbooks": {
+        "SayingBook(days, sayings)": (
+            "__eq__", "__str__", "read(text)", "keeps(row)", "first_broken(row)", "with_saying(saying)",
+            "without(numbers)", "turned()", "backwards()")},
+    "unseen": {
+        "Found(row)": (), "Barred(rings)": (), "Always(rings)": (), "Open(one, other)": (), "Never(rings)": ()},
+    "shelves": {"Shelf(things=())": ("__eq__", "thing(name)")},
+    "desk": {
+        "Desk()": (
+            "__len__", "__contains__", "__eq__", "__call__(line)", "told(*lines)", "tried(*lines)", "undo()", "redo()",
+            "twin()")},
 }
 STATIC = ("of", "read")
 

@@ -5,6 +5,7 @@ from anyseven.apart import Joined, Parted
 from anyseven.books import Empty
 from anyseven.bounds import AnyBound, AnyUnbound, Bound, Unbound
 from anyseven.closed import Closed, Closure, Makes, NotClosed
+from anyseven.duty_bounds import Duties
 from anyseven.follows import Breaks, Follows
 from anyseven.kept import Kept, Ring
 from anyseven.level_stretches import Sign, Stretch
@@ -14,10 +15,13 @@ from anyseven.missed import Missed
 from anyseven.paces import Clash, Paces
 from anyseven.papers import Denial, Paper, fixed
 from anyseven.rounds import NoTotal, Totals
+from anyseven.row_shares import NoShare, Rest
 from anyseven.rows import Row
 from anyseven.settled import NoSum, Settled
+from anyseven.shares import Share
 from anyseven.tables import SignsRing, SignsRow, Table
 from anyseven.unlike import BothSigns, Home
+from anyseven.unseen import Always, Barred, Found, Never, Open
 from tests.support import OTHER, Case
 
 # The classes of papers, their words, whether they are true, and their parts.
@@ -37,7 +41,10 @@ CLASSES = (
     (Parted, "parted", True, ("row",)), (Joined, "joined", False, ("length", "counts")),
     (Paces, "paces", True, ("low", "high")), (Clash, "clash", False, ("one", "other")),
     (Totals, "totals", True, ("low", "high")), (NoTotal, "nototal", False, ("one", "other")),
-    (Settled, "settled", True, ("most", "forth", "back", "row")), (NoSum, "nosum", False, ("divisor",)))
+    (Settled, "settled", True, ("most", "forth", "back", "row")), (NoSum, "nosum", False, ("divisor",)),
+    (Duties, "duties", True, ("row", "way")), (Share, "share", True, ("first", "last")), (NoShare, "noshare", False, ("sign",)),
+    (Rest, "rest", True, ("first", "last")), (Found, "found", True, ("row",)), (Barred, "barred", False, ("rings",)),
+    (Always, "always", True, ("rings",)), (Open, "open", True, ("one", "other")), (Never, "never", False, ("rings",)))
 VALUES = (0, 1, True, None, "", "text", b"x", 2.5, {"a": [1]}, OTHER, Row([1, 2]), 10 ** 5000)
 
 
