@@ -41,11 +41,11 @@ def is_ring_of(choice, steps):
         return False
     if not all([are_integers(step) and len(step) == 3 for step in steps]):
         return False
-    leads = {step: (end, cost) for _, end, cost, step in links_of_choice(choice)}
+    links = {link[3]: link for link in links_of_choice(choice)}
     cost = 0
     for at, step in enumerate(steps):
-        lead = leads.get(tuple(step))
-        if lead is None or lead[0] != steps[(at + 1) % len(steps)][0]:
+        link = links.get(tuple(step))
+        if link is None or link[1] != steps[(at + 1) % len(steps)][0]:
             return False
-        cost += lead[1]
+        cost += link[2]
     return cost < 0

@@ -11,7 +11,7 @@ MOST_CHOICES = 400
 def choices_of(days, saying):
     """The tuple of all choices of a saying."""
     need_saying_within(days, saying)
-    need_few_choices(many_of_saying(days, saying))
+    # Of 12 days no saying has more than 144, so there are never too many.
     return tuple(saying_choices(days, saying))
 
 
@@ -71,19 +71,16 @@ def saying_choices(days, saying):
 
 def contrary_choices(days, saying):
     """The list of the choices of the contrary of a saying."""
-    begins = begins_of(days, saying.length)
+    length = saying.length
+    begins = begins_of(days, length)
     if isinstance(saying, Just):
         sides = beyond(saying.number, saying.number)
-        if len(begins) == 0:
-            return [()]
-        return [all_within(begins, saying.length, low, high) for low, high in sides]
+        return [all_within(begins, length, low, high) for low, high in sides] if begins else [()]
     sides = beyond(saying.low, saying.high)
     if isinstance(saying, Some):
-        if len(sides) == 1:
-            return [all_within(begins, saying.length, sides[0][0], sides[0][1])]
-        return each_beyond(begins, saying.length, sides)
+        return each_beyond(begins, length, sides)
     firsts = [saying.begin] if isinstance(saying, Told) else begins
-    return [((begin, saying.length, low, high),) for low, high in sides for begin in firsts]
+    return [((begin, length, low, high),) for low, high in sides for begin in firsts]
 
 
 def beyond(low, high):

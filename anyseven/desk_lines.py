@@ -11,15 +11,14 @@ DEEDS = ("row", "book", "unseen", "join", "day", "rule", "say", "strike", "days"
 ASKS = (
     "names", "show", "heights", "sums", "sort", "table", "missed", "keeps", "kept", "longest", "pace", "most", "least",
     "follows", "needless", "is", "idle", "quarrels")
-ALL_KINDS = "row book unseen"
 
 # What stands behind the first item of each line. What is in small letters is a name, and tells the kinds of things,
 # with blanks between, that can be kept under it.
 FORMS = {
     "row": ("NEW", "ROW"), "book": ("NEW", "N"), "unseen": ("NEW", "N"), "join": ("NEW", "row", "row"),
     "day": ("row", "T"), "rule": ("book", "RULE"), "say": ("unseen", "SAYING"), "strike": ("book unseen", "N .."),
-    "days": ("book", "N"), "turn": (ALL_KINDS,), "drop": (ALL_KINDS,),
-    "names": (), "show": (ALL_KINDS,), "heights": ("row",), "sums": ("row", "N"), "sort": ("row", "N"),
+    "days": ("book", "N"), "turn": ("row book unseen",), "drop": ("row book unseen",),
+    "names": (), "show": ("row book unseen",), "heights": ("row",), "sums": ("row", "N"), "sort": ("row", "N"),
     "table": ("row",), "missed": ("row",), "keeps": ("row", "book unseen"), "kept": ("book unseen",),
     "longest": ("book",), "pace": ("book",), "most": ("book", "N", "N"), "least": ("book", "N", "N"),
     "follows": ("book", "RULE"), "needless": ("book",), "is": ("unseen", "SAYING"), "idle": ("unseen",),

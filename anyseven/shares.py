@@ -59,14 +59,16 @@ class Balance:
 def share_of_round(amounts, share):
     """The Share of a stretch of the round that has the share of both."""
     need_share(amounts, share)
-    # A stretch that begins behind the last day is found before as one that begins ahead of the first.
+    # A stretch that begins behind the last day is found before, as one that begins ahead of the first.
     first, last = moments_with(amounts, share, days_of_round(amounts))
     return Share(first, last)
 
 
 def days_of_round(amounts):
     """The pairs of the days in which stretches of the round begin and end."""
-    return [(one, one + more) for one in range(amounts.days) for more in range(amounts.days + 1)]
+    # One that comes home into its own day leaves a part of this day, with equal parts of both: moved to the end of the
+    # day, this part leaves a stretch that begins with the next day.
+    return [(one, one + more) for one in range(amounts.days) for more in range(amounts.days)]
 
 
 def moments_with(amounts, share, pairs):

@@ -9,6 +9,13 @@ class Other:
     """An object of a class that the package does not know."""
 
 
+class Alike:
+    """An object that says that it equals all."""
+
+    def __eq__(self, other):
+        return True
+
+
 OTHER = Other()
 NO_INTEGERS = (True, False, None, "", "1", "a", b"1", 1.0, 2.5, [], [1], (1,), {}, {1: 1}, {1}, OTHER, int)
 NO_LISTS = (True, False, None, 0, 1, 2.5, "", "12", b"12", {}, {1: 1}, {1}, range(1, 3), iter([1]), OTHER, list)

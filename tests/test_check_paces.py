@@ -140,6 +140,10 @@ class ShowsTotals(Case):
             True, False, False, False, False])
         self.is_same([self.shows(3, [Rule(2, 1, 3)], Totals(*pair)) for pair in ((2, 4), (True, 4), (1, 4), (4, 2))], [True] + [False] * 3)
         self.is_same([self.shows(1, [Rule(1, 0, 1)], Totals(*pair)) for pair in ((0, 1), (False, 1), (0, True))], [True, False, False])
+        # What tells no total is not what tells two.
+        for pair in ((0, 0), (1, 0), (0, 1), (1, 1)):
+            self.is_same(self.shows(1, [Rule(2, 1, 1)], Totals(*pair)), False)
+            self.is_same(self.shows(3, [Rule(1, None, 0), Rule(1, 1)], Totals(*pair)), False)
         self.is_same([self.shows(4, [], value) for value in (Totals(None, None), NoTotal(0, 0), Totals(0, None))], [True, False, False])
 
     def test_other_papers(self):

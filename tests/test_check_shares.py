@@ -71,7 +71,8 @@ class Shows(Case):
                 ((-1, 2), (1, 2), False), ((0, 1), (2, 1), False), ((1, 1), (0, 1), False), ((3, 2), (5, 2), False)):
             self.is_same(self.shows([(1, 1), (1, 1)], Fraction(1, 2), shows_row, right_row, Share(first, last)), shown)
         for first, last, shown in (
-                ((3, 2), (5, 2), True), ((7, 4), (11, 4), True), ((2, 1), (3, 1), False), ((0, 1), (1, 1), True), ((1, 1), (4, 1), False)):
+                ((3, 2), (5, 2), True), ((7, 4), (11, 4), True), ((5, 2), (7, 2), False), ((-1, 2), (1, 2), False), ((7, 2), (9, 2), False),
+                ((2, 1), (3, 1), False), ((0, 1), (1, 1), True), ((1, 1), (4, 1), False)):
             self.is_same(self.shows([(1, 1), (1, 1)], Fraction(1, 2), shows_round, right_round, Share(first, last)), shown)
 
     def test_stretches_of_the_round_and_of_the_row(self):
@@ -82,6 +83,8 @@ class Shows(Case):
         self.is_same(self.shows(PAIRS, two_thirds, shows_or_rest, right_or_rest, Rest((1, 3), (4, 3))), True)
         self.is_same(self.shows(PAIRS, two_thirds, shows_or_rest, right_or_rest, Rest((4, 3), (10, 3))), False)
         self.is_same(self.shows(PAIRS, two_thirds, shows_row, right_row, Rest((1, 3), (4, 3))), False)
+        self.is_same(self.shows([(1, 1), (1, 1)], Fraction(1, 2), shows_or_rest, right_or_rest, Rest((3, 2), (5, 2))), False)
+        self.is_same(self.shows([(1, 1), (1, 1)], Fraction(1, 2), shows_or_rest, right_or_rest, Rest((1, 2), (3, 2))), True)
         # A rest is right by itself, though the share is had, too.
         self.is_same(self.shows([(1, 1)], two_thirds, shows_or_rest, right_or_rest, Rest((0, 1), (1, 3))), True)
         self.is_same(self.shows([(1, 1)], two_thirds, shows_or_rest, right_or_rest, Share((0, 1), (2, 3))), True)

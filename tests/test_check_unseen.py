@@ -26,7 +26,8 @@ RINGS = (((0, 1, 1), (1, 0, -1)), ((1, 1, 1), (2, 0, -1)))
 RING = ((0, 2, 1), (1, 0, 1), (3, 1, -1))
 OTHER_PAPERS = (
     Found(None), Found(Row([0])), Found(Row([2, -3, 2])), Barred(None), Barred(()), Barred(((),)), Barred(RINGS), Always(()), Always(None),
-    Always((RING,)), Never(()), Never(None), Never((RING,)), Open(None, None), Open(Row([2, -3, 2]), Row([2, -3, 2])), Kept(Row([2, -3, 2])), Ring(RING))
+    Always((RING,)), Never(()), Never(None), Never((RING,)), Open(None, None), Open(Row([2, -3, 2]), Row([2, -3, 2])), Kept(Row([2, -3,
+        2])), Ring(RING))
 
 
 class ShowsSomeRow(Case):
@@ -62,13 +63,16 @@ class ShowsSomeRow(Case):
 
     def test_each_part(self):
         for rings, shown in (
-                (RINGS, True), ([[list(step) for step in ring] for ring in RINGS], True), (RINGS[::-1], False), (RINGS[:1], False), (RINGS + RINGS[:1], False),
+                (RINGS, True), ([[list(step) for step in ring] for ring in RINGS], True), (RINGS[::-1], False), (RINGS[:1], False),
+                (RINGS + RINGS[:1], False),
                 ((RINGS[0], RINGS[0]), False), ((RINGS[0][::-1], RINGS[1]), True), ((RINGS[0] * 2, RINGS[1]), True), ((RINGS[0], ()), False),
                 ((RINGS[0], RINGS[1][:1]), False), ((RINGS[0], ((1, 1, True), (2, 0, -1))), False), ((((False, 1, 1), (1, 0, -1)), RINGS[1]), False),
-                ((((0, 1, 1), (1, 0, -1.0)), RINGS[1]), False), ((RINGS[0], None), False), ((None, None), False), ("ab", False), ({0: 1, 1: 2}, False)):
+                ((((0, 1, 1), (1, 0, -1.0)), RINGS[1]), False), ((RINGS[0], None), False), ((None, None), False), ("ab", False), ({0: 1,
+                1: 2}, False)):
             self.is_same(self.shows(*NEVER, Barred(rings)), shown)
         for row, shown in (
-                (Row([2, -3, 2]), True), (Row([3, -4, 3]), True), (Row([1, -2, 1]), False), (Row([2, -3, 2, 0]), False), (Row([2, -3]), False), ((2, -3, 2), False),
+                (Row([2, -3, 2]), True), (Row([3, -4, 3]), True), (Row([1, -2, 1]), False), (Row([2, -3, 2, 0]), False), (Row([2, -3]),
+                False), ((2, -3, 2), False),
                 ("2 -3 2", False), (None, False)):
             self.is_same(self.shows(*THREE, Found(row)), shown)
 
@@ -158,14 +162,17 @@ class ShowsJudged(Case):
     def test_each_part(self):
         saying = ("some", 1, 2, None)
         for rings, shown in (
-                ((RING,), True), ([list(map(list, RING))], True), ((RING[1:] + RING[:1],), True), ((RING * 2,), True), ((RING[::-1],), False), ((RING[:2],), False),
+                ((RING,), True), ([list(map(list, RING))], True), ((RING[1:] + RING[:1],), True), ((RING * 2,), True), ((RING[::-1],),
+                False), ((RING[:2],), False),
                 ((), False), ((RING, RING), False), (RING, False), (None, False), ((((0, 2, 1), (1, 0, 1), (3, True, -1)),), False)):
             self.is_same(self.shows(*THREE, saying, Always(rings)), shown)
             self.is_same(self.shows(*THREE, saying, Never(rings)), False)
 
     def test_sayings_without_a_choice(self):
-        self.is_same([self.shows(3, [], ("some", 4, 0, None), paper) for paper in (Never(()), Never(((),)), Always(()), Never(None))], [True] + [False] * 3)
-        self.is_same([self.shows(3, [], ("any", 4, 0, None), paper) for paper in (Always(()), Always(((),)), Never(()), Always(None))], [True] + [False] * 3)
+        self.is_same([self.shows(3, [], ("some", 4, 0, None), paper) for paper in (Never(()), Never(((),)), Always(()), Never(None))],
+            [True] + [False] * 3)
+        self.is_same([self.shows(3, [], ("any", 4, 0, None), paper) for paper in (Always(()), Always(((),)), Never(()), Always(None))],
+            [True] + [False] * 3)
 
     def test_other_papers(self):
         for days, sayings in (THREE, NEVER, (1, []), (3, [("some", 4, 0, None)])):

@@ -14,7 +14,7 @@ from anyseven.rows import Row
 from anyseven.rules import Rule
 from anyseven.shelves import Shelf
 from tests.anew_desk import FORMS, right_lines
-from tests.support import NO_STRINGS, OTHER, Case
+from tests.support import NO_STRINGS, OTHER, Alike, Case
 from tests.test_desk_lines import NO_NAMES
 
 EVENING = ("book k 7", "rule k 3 - -1", "rule k 5 1 -", "row a 1 2", "turn a")
@@ -207,7 +207,8 @@ class TakenBack(DeskCase):
     def test_against_the_model(self):
         chance = random.Random(981)
         texts = [line for line in right_lines() if line.split(" ")[0] not in ("row", "book", "unseen", "join", "drop")]
-        news = ("row a 1 -1 2", "row b 0", "book k 5", "book l 7", "unseen u 3", "unseen v 4", "join c a b", "join d c a", "drop a", "drop k", "drop u", "row a")
+        news = ("row a 1 -1 2", "row b 0", "book k 5", "book l 7", "unseen u 3", "unseen v 4", "join c a b", "join d c a", "drop a",
+            "drop k", "drop u", "row a")
         seen = {}
         for _ in range(40):
             desk, model = Desk(), Model()
@@ -293,8 +294,10 @@ class Within(DeskCase):
         desk = Desk()
         desk.told("row a 1", "book kk 3", "unseen u 2")
         self.is_same([name in desk for name in ("a", "kk", "u")], [True] * 3)
-        for value in NO_NAMES + ("k", "b", "row", None, True, 0, 1, 2.5, b"a", [], ["a"], ("a",), {}, {"a"}, OTHER, Desk, Row([1]), desk, "a" * 20000):
+        for value in NO_NAMES + ("k", "b", "row", None, True, 0, 1, 2.5, b"a", [], ["a"], ("a",), {}, {"a"}, OTHER, Desk, Row([1]), desk,
+            "a" * 20000):
             self.is_same(value in desk, False)
+        self.is_same(Alike() in desk, False)
         self.is_same(len(desk), 3)
         desk("drop a")
         self.is_same(("a" in desk, len(desk)), (False, 2))

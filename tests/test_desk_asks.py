@@ -124,7 +124,8 @@ class Answers(Case):
                 ("quarrels k7", "0 1"), ("most k 2 1", "-3"), ("least k 0 3", "-"), ("needless k", "-"), ("follows k 8 1 -", "follows"),
                 ("follows k 1 - 4", "breaks"), ("follows k 3 - -1", "follows")):
             self.asked(SHELF, line, answer)
-        more = Shelf([("k", Book(4, [Rule(2, None, 3), Rule(3, 4), Rule(1, 1, 2)])), ("e", Book(24, [])), ("q", Book(4, [Rule(2, None, -1), Rule(3, 1), Rule(4, 0)]))])
+        more = Shelf([("k", Book(4, [Rule(2, None, 3), Rule(3, 4), Rule(1, 1, 2)])), ("e", Book(24, [])), ("q", Book(4, [Rule(2, None, -1),
+            Rule(3, 1), Rule(4, 0)]))])
         for line, answer in (
                 ("needless k", "2"), ("most k 0 1", "2"), ("least k 0 1", "1"), ("pace k", "3 2"), ("longest k", "forever"), ("longest e", "forever"),
                 ("pace e", "0 1"), ("quarrels e", "-"), ("needless e", "-"), ("most e 0 24", "-"), ("quarrels q", "0 1 / 0 2"), ("kept e", "kept")):
@@ -155,7 +156,8 @@ class Answers(Case):
                 ("kept u", "found"), ("kept n", "barred"), ("is u some 1 2 -", "always"), ("is u any 1 1 -", "never"), ("is u told 1 1 - -4", "open"),
                 ("idle u", "-"), ("quarrels u", "-"), ("quarrels n", "0 1")):
             self.asked(SHELF, line, answer)
-        more = Shelf([("u", SayingBook(4, [Rule(1, 0), Some(2, 0), Rule(2, 0)])), ("n", SayingBook(3, [Some(4, 0), Just(4, 0), Rule(1, 1), Rule(1, None, 0)]))])
+        more = Shelf([("u", SayingBook(4, [Rule(1, 0), Some(2, 0), Rule(2, 0)])), ("n", SayingBook(3, [Some(4, 0), Just(4, 0), Rule(1, 1),
+            Rule(1, None, 0)]))])
         self.asked(more, "idle u", "1 2")
         self.asked(more, "quarrels n", "0 / 1 / 2 3")
 
@@ -210,11 +212,13 @@ class Wrong(Case):
         self.refused(Misfit("kinds"), *[f"{word} {name} 0" for word in ("sums", "sort") for name in "ku"])
         self.refused(Misfit("kinds"), *[f"{word} {name}" for word in ("longest", "pace", "needless") for name in "au"])
         self.refused(Misfit("kinds"), *[f"{word} {name} 9 9" for word in ("most", "least") for name in "au"])
-        self.refused(Misfit("kinds"), "follows a 3 1 -", "follows u 3 1 -", "is a just 1 1", "is k just 1 1", "idle a", "idle k", "kept a", "quarrels a")
+        self.refused(Misfit("kinds"), "follows a 3 1 -", "follows u 3 1 -", "is a just 1 1", "is k just 1 1", "idle a", "idle k", "kept a",
+            "quarrels a")
         self.refused(Misfit("kinds"), "keeps k k", "keeps u k", "keeps a a", "keeps k a", "keeps u a")
 
     def test_what_is_asked_refuses(self):
-        self.refused(BadNumber("length"), "sums a 0", "sums a 7", "sort a 0", "sort a 7", "most k 0 7", "most k 0 0", "least k 5 2", "sums a " + "9" * 60)
+        self.refused(BadNumber("length"), "sums a 0", "sums a 7", "sort a 0", "sort a 7", "most k 0 7", "most k 0 0", "least k 5 2",
+            "sums a " + "9" * 60)
         self.refused(BadNumber("begin"), "most k 6 1", "least k 6 0", "most k7 7 1")
         self.refused(Misfit("level"), "missed a")
         self.refused(Misfit("days"), "keeps a k7", "keeps z k", "keeps a u", "is u told 0 4 1 -", "is u told 3 1 1 -")
@@ -223,7 +227,8 @@ class Wrong(Case):
         self.refused(BadNumber("begin"), "most k7 7 9")
         large = Shelf([("k", Book(25, [Rule(25, 1)])), ("u", SayingBook(12, [Just(1, 0), Just(2, 0)]))])
         for error, line in (
-                (TooMany("days", 24), "quarrels k"), (TooMany("length", 24), "longest k"), (TooMany("choices", 400), "kept u"), (TooMany("choices", 400), "idle u"),
+                (TooMany("days", 24), "quarrels k"), (TooMany("length", 24), "longest k"), (TooMany("choices", 400), "kept u"),
+                (TooMany("choices", 400), "idle u"),
                 (TooMany("choices", 400), "quarrels u"), (TooMany("choices", 400), "is u just 3 0"), (Misfit("days"), "is u told 0 13 1 -")):
             self.refuses(error, answer_of, large, line)
         self.is_same(answer_of(large, "pace k"), "1 1")

@@ -89,7 +89,8 @@ class Done(Case):
 
     def test_names_like_words(self):
         shelf = Shelf()
-        for line, answer in (("row row 1 2", "3"), ("book book 4", "2"), ("unseen drop 3", "3"), ("join names row row", "6"), ("day names 1", "7"), ("drop drop", "3")):
+        for line, answer in (("row row 1 2", "3"), ("book book 4", "2"), ("unseen drop 3", "3"), ("join names row row", "6"),
+            ("day names 1", "7"), ("drop drop", "3")):
             shelf, told = changed(shelf, line)
             self.is_same(told, answer)
         self.is_same(shelf.names, ("row", "book", "names"))
@@ -129,7 +130,8 @@ class Wrong(Case):
         self.refused(NoName("y"), "join a y z", "join z y z")
 
     def test_things_of_another_kind(self):
-        self.refused(Misfit("kinds"), "join c k a", "join c a u", "join c k u", "day k 1", "day u 1", "rule a 3 1 -", "rule u 3 1 -", "say a just 1 1")
+        self.refused(Misfit("kinds"), "join c k a", "join c a u", "join c k u", "day k 1", "day u 1", "rule a 3 1 -", "rule u 3 1 -",
+            "say a just 1 1")
         self.refused(Misfit("kinds"), "say k just 1 1", "strike a 0", "days a 3", "days u 3", "strike a 9 9")
         # Ahead of a name that is kept, and of what the classes refuse.
         self.refused(Misfit("kinds"), "join a k a", "join b a u", "days u 0", "days a 49")

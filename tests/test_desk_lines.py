@@ -111,7 +111,8 @@ class Read(Case):
 
     def test_bounds_in_the_line(self):
         for line, item in (
-                ("rule k 3 2 1", 4), ("rule k 3 - -", 4), ("rule k 49 1 -", 2), ("follows k 3 2 1", 4), ("say u any 3 2 1", 5), ("say u some 3 - -", 5),
+                ("rule k 3 2 1", 4), ("rule k 3 - -", 4), ("rule k 49 1 -", 2), ("follows k 3 2 1", 4), ("say u any 3 2 1", 5),
+                ("say u some 3 - -", 5),
                 ("say u told 0 1 5 4", 6), ("say u told 48 1 5 -", 3), ("is u told 0 49 5 -", 4), ("is u just 3 -", 4), ("is u just 3 1 -", 5),
                 ("say u 3 - -1", 2), ("rule k any 3 - -1", 2), ("is u rule 3 1 -", 2)):
             self.refuses(BadText(0, item), read_line, line)

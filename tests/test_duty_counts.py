@@ -144,7 +144,6 @@ class Counted(Case):
         self.is_same(many_from(3, [Rule(2, None, 1)], (1, 1)), 0)
 
     def test_just_400(self):
-        # 5 days each with 3 ways, and the like: the most that is listed.
         for days, rules in ((9, [Rule(3, 1)]), (10, [RULE]), (11, [Rule(2, None, 1)]), (12, [Rule(2, None, 1)]), (13, [Rule(4, 1, 2)])):
             many = len(fitting(days, triples(rules)))
             if many > 400:
@@ -152,6 +151,10 @@ class Counted(Case):
             else:
                 self.is_same(len(all_duties(days, rules)), many)
         self.is_same(len(all_duties(12, [Rule(2, None, 1)])), 377)
+        few = [Rule(8, None, 2), Rule(3, None, 1)]
+        self.is_same((len(all_duties(16, few)), many_fitting(16, tuple(triples(few)))), (400, 400))
+        self.is_same(many_duties(9, [Rule(4, 1)]), 401)
+        self.refuses(TooMany("duties", 400), all_duties, 9, [Rule(4, 1)])
 
 
 class Wrong(Case):

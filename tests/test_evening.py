@@ -128,7 +128,8 @@ class FiveWays(Case):
                 if fewest:
                     self.is_same(judged(unseen, Some(length, None, fewest.number - 1)).word, "never")
                 if most and fewest:
-                    self.is_same(str(tightened(book.with_rule(Rule(length, fewest.number, most.number)))), str(tightened(book.with_rule(Rule(length, fewest.number)))))
+                    self.is_same(str(tightened(book.with_rule(Rule(length, fewest.number, most.number)))),
+                        str(tightened(book.with_rule(Rule(length, fewest.number)))))
 
     def test_follows_and_idle(self):
         chance = random.Random(1005)
@@ -208,7 +209,8 @@ class Evening(Case):
 
     def test_a_whole_evening(self):
         desk = Desk()
-        self.is_same(desk.told("book k 16", "rule k 11 1 -", "rule k 7 - -1", "kept k", "longest k", "pace k"), ("1", "0", "1", "kept", "16", "clash"))
+        self.is_same(desk.told("book k 16", "rule k 11 1 -", "rule k 7 - -1", "kept k", "longest k", "pace k"), ("1", "0", "1", "kept",
+            "16", "clash"))
         self.is_same(desk.told("days k 17", "kept k", "quarrels k"), ("2", "ring", "0 1"))
         self.is_same(desk.undo(), "days k 17")
         row = kept(Book(16, [Rule(11, 1), Rule(7, None, -1)])).row

@@ -188,7 +188,8 @@ class Time(Case):
     def books(self):
         """Saying books of 12 days with 8 sayings and nearly 400 choices: that are just kept, and just not."""
         chance = random.Random(941)
-        slow = ([Just(6, 1), Some(5, 1)], [Just(1, 1), Told(0, 12, 1)], [Some(1, 9, 9), Some(2, 9, 9), Some(11, 9)], [Some(2, 5), Just(9, 6), Some(11, 7, 7)])
+        slow = ([Just(6, 1), Some(5, 1)], [Just(1, 1), Told(0, 12, 1)], [Some(1, 9, 9), Some(2, 9, 9), Some(11, 9)], [Some(2, 5), Just(9,
+            6), Some(11, 7, 7)])
         for sayings in slow:
             for slack in (0, 1, 2, 10, 10 ** 6):
                 rules = [Rule(length, -slack - chance.randint(0, 2), slack + chance.randint(0, 2)) for length in (1, 2, 3, 5, 7, 12)]

@@ -104,7 +104,8 @@ class Simplest(Case):
                 ([], (0, 1)), ([Rule(3, 7)], (3, 1)), ([Rule(3, -7)], (0, 1)), ([Rule(3, None, 7)], (0, 1)), ([Rule(3, None, -7)], (-3, 1)),
                 ([Rule(3, 1, 2)], (1, 2)), ([Rule(3, -2, -1)], (-1, 2)), ([Rule(48, 1, 1)], (1, 48)), ([Rule(47, -1, -1), Rule(1, -1)], (-1, 47)),
                 ([Rule(2, 5), Rule(3, None, 8)], (5, 2)), ([Rule(3, 7, 8)], (5, 2)), ([Rule(5, 7, 8)], (3, 2)), ([Rule(1, -5, 5)], (0, 1)),
-                ([Rule(1, HUGE, HUGE)], (HUGE, 1)), ([Rule(7, 16), Rule(5, None, 12)], (7, 3)), ([Rule(1, 4, 9)], (4, 1)), ([Rule(1, -9, -4)], (-4, 1))):
+                ([Rule(1, HUGE, HUGE)], (HUGE, 1)), ([Rule(7, 16), Rule(5, None, 12)], (7, 3)), ([Rule(1, 4, 9)], (4, 1)), ([Rule(1, -9,
+                -4)], (-4, 1))):
             self.is_same(simplest_pace(rules), right)
 
     def test_the_least_by_of_a_round(self):

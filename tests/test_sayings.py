@@ -82,7 +82,8 @@ class Made(Case):
                 (Some(2, 1), Some(2, 1, None)), (Just(2, 1), Just(2, 1)), (Told(0, 2, None, 1), Told(0, 2, high=1)), (Some(1, 0, 0), Some(1, 0, 0))):
             self.is_same(one == other, True)
             self.is_same(one != other, False)
-        self.differs(Some(2, 1, 3), [Some(3, 1, 3), Some(2, 0, 3), Some(2, 1, 4), Some(2, 1), Rule(2, 1, 3), Just(2, 1), Told(0, 2, 1, 3), None, "some 2 1 3"])
+        self.differs(Some(2, 1, 3), [Some(3, 1, 3), Some(2, 0, 3), Some(2, 1, 4), Some(2, 1), Rule(2, 1, 3), Just(2, 1), Told(0, 2, 1, 3),
+            None, "some 2 1 3"])
         self.differs(Just(2, 1), [Just(3, 1), Just(2, 2), Some(2, 1), Rule(2, 1), Some(2, 1, 1), Told(0, 2, 1, 1), (2, 1), OTHER])
         self.differs(Told(1, 2, 0, 3), [
             Told(0, 2, 0, 3), Told(1, 3, 0, 3), Told(1, 2, 1, 3), Told(1, 2, 0, 2), Told(1, 2, 0), Told(1, 2, None, 3), Some(2, 0, 3), Rule(2, 0, 3)])
@@ -211,14 +212,16 @@ class Texts(Case):
     def test_each_item_bent_of_any_saying(self):
         bounds = NO_BOUND_ITEMS
         for text, wrong in (
-                ("any 3 -1 2", [NO_WORDS, NO_LENGTH_ITEMS, bounds, bounds + ("-2",)]), ("some 3 -1 2", [NO_WORDS, NO_LENGTH_ITEMS, bounds, bounds + ("-2",)]),
+                ("any 3 -1 2", [NO_WORDS, NO_LENGTH_ITEMS, bounds, bounds + ("-2",)]), ("some 3 -1 2", [NO_WORDS, NO_LENGTH_ITEMS, bounds,
+                bounds + ("-2",)]),
                 ("just 3 7", [NO_WORDS, NO_LENGTH_ITEMS, NO_NUMBER_ITEMS]),
                 ("told 1 3 -1 2", [NO_WORDS, NO_BEGIN_ITEMS, NO_LENGTH_ITEMS, bounds, bounds + ("-2",)])):
             self.bends(lambda some: Shown(read_saying(some)), text, wrong)
 
     def test_items_missing_and_too_many(self):
         for read, text in (
-                (read_saying, "any 3 1 -"), (read_saying, "some 3 1 -"), (read_saying, "just 3 1"), (read_saying, "told 0 3 1 -"), (Some.read, "some 3 1 -"),
+                (read_saying, "any 3 1 -"), (read_saying, "some 3 1 -"), (read_saying, "just 3 1"), (read_saying, "told 0 3 1 -"),
+                (Some.read, "some 3 1 -"),
                 (Just.read, "just 3 1"), (Told.read, "told 0 3 1 -")):
             items = text.split(" ")
             for many in range(1, len(items)):

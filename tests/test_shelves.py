@@ -8,7 +8,7 @@ from anyseven.rules import Rule
 from anyseven.sayingbooks import SayingBook
 from anyseven.sayings import Some
 from anyseven.shelves import Shelf
-from tests.support import NO_LISTS, OTHER, Case
+from tests.support import NO_LISTS, OTHER, Alike, Case
 from tests.test_desk_lines import NO_NAMES
 
 ROW, BOOK, UNSEEN = Row([1, -2]), Book(6, [Rule(3, 1)]), SayingBook(3, [Some(1, 0)])
@@ -42,7 +42,8 @@ class Made(Case):
     def test_what_makes_no_shelf(self):
         for value in NO_LISTS + (Shelf(), ROW):
             self.refuses(BadDesk("things"), Shelf, value)
-        for value in NO_LISTS + (ROW, ("a",), ("a", ROW, 1), ["a", None], ("a", "1 -2"), ("a", Row), ("a", [1, -2]), ("a", Rule(3, 1)), (ROW, "a"), ("a", OTHER)):
+        for value in NO_LISTS + (ROW, ("a",), ("a", ROW, 1), ["a", None], ("a", "1 -2"), ("a", Row), ("a", [1, -2]), ("a", Rule(3, 1)),
+            (ROW, "a"), ("a", OTHER)):
             self.refuses(BadDesk("things"), Shelf, [value])
             self.refuses(BadDesk("things"), Shelf, [("a", ROW), ("a", BOOK), value])
         for name in NO_NAMES + (1, None, True, b"a", ("a",), ["a"]):
@@ -73,3 +74,5 @@ class Kept(Case):
             for value in NO_NAMES + ("b", "aa", "ku", 0, 1, True, None, 2.5, b"a", [], ["a"], ("a",), ("a", ROW), {}, OTHER, ROW, Shelf):
                 self.refuses(NoName(value), shelf.thing, value)
         self.refuses(NoName("a"), Shelf().thing, name="a")
+        with self.assertRaises(NoName):
+            Shelf(THINGS).thing(Alike())

@@ -41,7 +41,8 @@ class Replay(Case):
 
     def test_lines_that_are_refused(self):
         for line, error in (
-                ("drop z", NoName("z")), ("row a 1", Twice("a")), ("row", BadText(0, 1)), ("", BadText(0, 0)), ("xyz", BadText(0, 0)), ("book z 0", BadNumber("days")),
+                ("drop z", NoName("z")), ("row a 1", Twice("a")), ("row", BadText(0, 1)), ("", BadText(0, 0)), ("xyz", BadText(0, 0)),
+                ("book z 0", BadNumber("days")),
                 ("rule a 1 1 -", Misfit("kinds")), ("join c a", BadText(0, 3))):
             for many in (4, 5, 7):
                 self.refuses(BadLine(many, error), replay, STORY[:many] + (line, "drop zz", "names"))

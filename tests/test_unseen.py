@@ -84,7 +84,7 @@ class SomeRow(Case):
         self.is_same([self.right(days, []) for days in (1, 2, 12)], [True] * 3)
         self.is_same(some_row(SayingBook(3, [Some(4, 0)])), Barred(()))
         self.is_same(some_row(SayingBook(3, [Just(48, 0)])), Barred([]))
-        self.is_same(some_row(SayingBook(3, [Just(1, 0)] * 7 + [Some(4, 0)])), Barred(()))
+        self.is_same(some_row(SayingBook(12, [Just(1, 0)] * 7 + [Some(13, 0)])), Barred(()))
         self.is_same(type(some_row(SayingBook(3, [Rule(4, 10 ** 9)] * 8))), Found)
         self.is_same(self.right(12, [("just", 1, 7), ("any", 1, 7, 7), ("some", 12, 84, 84)]), True)
         self.is_same(self.right(12, [("just", 1, 7), ("any", 1, None, 6)]), False)
@@ -196,6 +196,20 @@ class Judged(Case):
         self.is_same(judged(SayingBook(12, []), Some(5, 0, 0)).word, "open")
         self.refuses(TooMany("choices", 400), judged, SayingBook(12, [Some(1, 0)] * 3), Rule(12, 0))
         self.refuses(TooMany("choices", 400), judged, SayingBook(12, [Some(1, 0)] * 3), Some(13, 0))
+        # 288 choices: one more of each kind, and contraries with one choice and with two.
+        book = SayingBook(12, [Some(1, 0), Some(1, 1), Some(11, 0)])
+        self.is_same(many_choices(book), 288)
+        for saying in (Just(12, 0), Told(0, 12, 0, 1), Told(3, 2, 0, 0), Some(12, 0, 0), Rule(12, 0, 1), Rule(11, 0)):
+            self.refuses(TooMany("choices", 400), judged, book, saying)
+        for saying in (Just(13, 0), Told(0, 12, 0), Told(3, 2, None, 0), Some(12, 0), Some(13, 0, 0), Rule(12, None, 1), Rule(13, 0, 1)):
+            self.is_same(type(judged(book, saying)) in (Always, Never, Open), True)
+        # Just 400 with two choices behind 200, or with one behind 400.
+        book = SayingBook(12, [Some(3, 0), Some(3, 1), Some(11, 0)])
+        self.is_same(many_choices(book), 200)
+        for saying in (Just(12, 0), Told(0, 12, 0, 1), Some(12, 0, 0), Rule(12, 0, 1)):
+            self.is_same(judged(book, saying).word, "open")
+        book = SayingBook(12, [Just(3, 0), Some(9, 0)])
+        self.is_same([judged(book, saying).word for saying in (Just(13, 0), Some(13, 0, 1), Rule(13, 0, 1))], ["never", "never", "always"])
         # Ahead of what no row keeps.
         never = SayingBook(12, [Some(1, 0), Some(1, 1), Rule(1, None, -1)])
         self.refuses(TooMany("choices", 400), judged, never, Some(10, 0))
